@@ -1,0 +1,1 @@
+"""Onecut: every stretch of days told in integers, less than one off."""
