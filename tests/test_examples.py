@@ -1,9 +1,12 @@
 """The sessions of the document, as they stand there, and those of README.md."""
 
+import contextlib
 import doctest
+import io
 import os
 import unittest
 
+# They continue each other.
 SESSIONS = {
     "onecut.ratios": """
 >>> from onecut.ratios import floor_of, is_ratio, lowest, plus, rest_of
@@ -17,25 +20,65 @@ SESSIONS = {
 >>> [without([((0, 1), (1, 1))], arc((2, 3), (1, 3))), length(arc((2, 3), (1, 3))), has(arc((2, 3), (1, 3)), (1, 3))]
 [[((1, 3), (2, 3))], (2, 3), False]
 """,
+    "onecut.floors": """
+>>> from onecut.floors import first_within, floor_sum, rests_within
+>>> [floor_sum(4, 3, 1, 5), rests_within(10, 3, 1, 7, 5, 6), first_within(10, 3, 1, 7, 5, 6)]
+[3, 2, 4]
+""",
+    "onecut.entries": """
+>>> from onecut.entries import amount, exact, point, sum_before
+>>> thirds = [("entry", 0, 6, ((1, 3), (1, 2))), ("entry", 1, 1, ((1, 6),))]
+>>> [amount(thirds, 1), sum_before(thirds, 2), exact(thirds, (1, 3)), point(thirds, 1), amount(thirds, 6)]
+[(2, 3), (1, 1), (3, 2), (2, 3), (0, 1)]
+""",
+    "onecut.ledger": """
+>>> from onecut.ledger import Ledger
+>>> ledger = Ledger()
+>>> [ledger.add(("entry", 0, 3, ((1, 3),))), ledger.add(("statement", 0, 1, 1)), ledger.change(1, ("statement", 0, 1, 0))]
+[0, 1, ('statement', 0, 1, 1)]
+>>> [ledger.numbered()[1], len(ledger), repr(ledger), ledger.next_number, Ledger.MOST_ENTRIES]
+[(1, ('statement', 0, 1, 0)), 2, 'Ledger(1, 1)', 2, 6]
+>>> [Ledger.of([("statement", 0, 1, 0), ("entry", 0, 3, ((1, 3),))]) == ledger, list(ledger.walk())[0][0]]
+[True, 0]
+>>> ledger.add(("statement", 0, 0, 1))
+raises BadItem(part=2)
+""",
+    "onecut.left": """
+>>> from onecut.left import allowed, average, best, cut_for, left, numbers, together, told
+>>> [left(ledger), numbers(ledger, (1, 1)), cut_for(ledger, (1, 1), 1), numbers(ledger, (0, 3))]
+[[((0, 1), (2, 3))], [0, 1], (1, 3), [1]]
+>>> [average(ledger, (1, 1)), together(ledger, [(1, 1), (2, 1)]), told(ledger, (2, 3), (0, 1))]
+[(1, 2), [(0, 1), (1, 0)], 1]
+>>> best(ledger, [((1, 1), 1, 5), ((2, 1), 1, 3), ((0, 3), 1, 1)])
+(6, (1, 3))
+""",
 }
+
+
+def printed(source, names):
+    """What a line of a session prints; an error is written as the document writes it."""
+    said = io.StringIO()
+    try:
+        with contextlib.redirect_stdout(said):
+            exec(compile(source, "session", "single"), names)
+    except Exception as error:
+        attributes = ", ".join(f"{name}={value!r}" for name, value in vars(error).items())
+        return f"raises {type(error).__name__}({attributes})\n"
+    return said.getvalue()
 
 
 class Examples(unittest.TestCase):
     def run_session(self, text, names):
-        test = doctest.DocTestParser().get_doctest(text, names, "session", None, 0)
-        self.assertTrue(test.examples)
-        runner = doctest.DocTestRunner()
-        said = []
-        runner.run(test, out=said.append, clear_globs=False)
-        self.assertEqual(runner.failures, 0, "".join(said))
-        return test.globs
+        examples = doctest.DocTestParser().get_examples(text)
+        self.assertTrue(examples)
+        for example in examples:
+            self.assertEqual(printed(example.source, names), example.want, example.source)
 
     def test_document(self):
-        # The sessions of the document continue each other.
         names = {}
         for title, text in SESSIONS.items():
             with self.subTest(title):
-                names = self.run_session(text, names)
+                self.run_session(text, names)
 
     def test_readme(self):
         path = os.path.join(os.path.dirname(os.path.abspath(__file__)), "..", "README.md")

@@ -14,6 +14,10 @@ BUILTINS = """len range enumerate zip min max sum abs sorted reversed int str bo
 repr any all divmod iter next map print Exception ValueError TypeError KeyError IndexError LookupError
 ZeroDivisionError ArithmeticError OverflowError RuntimeError NotImplementedError AttributeError StopIteration
 NotImplemented property classmethod staticmethod super""".split()
+# Of the names that L17 rules out, those that are near at hand.
+BARRED = """register mro elements open input law add_note with_traceback version_info dir eval exec exit gc getattr
+globals hasattr help id locals os quit setattr super type vars typing enum compile license credits""".split()
+SPECIAL = ("__init__", "__eq__", "__len__", "__repr__", "__str__")
 ALL_BUILTINS = dir(__builtins__) if not isinstance(__builtins__, dict) else list(__builtins__)
 
 
@@ -67,6 +71,26 @@ class Language(unittest.TestCase):
                     self.assertNotIsInstance(node.value, (float, complex), (name, node.lineno))
                     self.assertFalse(isinstance(node.value, str) and "%" in node.value, (name, node.lineno))
                 self.assertNotIsInstance(node, (ast.Div, ast.Global, ast.AsyncFunctionDef), name)
+
+    def test_what_a_class_with_its_own_equality_rules_out(self):
+        # any, all, sum and sorted take lists, and lists are sorted by sorted().
+        for name, text in sources():
+            for node in ast.walk(ast.parse(text)):
+                self.assertNotIsInstance(node, (ast.GeneratorExp, ast.Try), (name, getattr(node, "lineno", 0)))
+                if isinstance(node, ast.Attribute):
+                    self.assertNotEqual(node.attr, "sort", (name, node.lineno))
+
+    def test_names(self):
+        for name, text in sources():
+            for node in ast.walk(ast.parse(text)):
+                words = [node.id] if isinstance(node, ast.Name) else []
+                words += [node.attr] if isinstance(node, ast.Attribute) else []
+                words += [node.arg] if isinstance(node, ast.arg) else []
+                for word in words:
+                    self.assertNotIn(word, BARRED, (name, node.lineno))
+                    self.assertFalse(word.startswith("__") and word not in SPECIAL, (name, node.lineno))
+                if isinstance(node, ast.Name) and node.id == "_":
+                    self.assertIsInstance(node.ctx, ast.Store, (name, node.lineno))
 
 
 if __name__ == "__main__":
