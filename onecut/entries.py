@@ -4,6 +4,14 @@ from onecut.kinds import check_day, check_stretch
 from onecut.ratios import ZERO, minus, plus, rest_of
 
 
+def _total(ratios):
+    """The sum of a list of ratios."""
+    total = ZERO
+    for ratio in ratios:
+        total = plus(total, ratio)
+    return total
+
+
 def _given_on(entry, day):
     """What the entry gives on the day."""
     _, first, many, amounts = entry
@@ -16,29 +24,20 @@ def _given_before(entry, day):
     """The sum of what the entry gives on all days below the day."""
     _, first, many, amounts = entry
     rounds, rest = divmod(min(max(day - first, 0), many), len(amounts))
-    total = ZERO
-    for at, (top, under) in enumerate(amounts):
-        times = rounds + 1 if at < rest else rounds
-        total = plus(total, (top * times, under))
-    return total
+    times = [rounds + 1 if at < rest else rounds for at in range(len(amounts))]
+    return _total([(top * often, under) for often, (top, under) in zip(times, amounts)])
 
 
 def amount(entries, day):
     """The amount of the day."""
     check_day(day)
-    total = ZERO
-    for entry in entries:
-        total = plus(total, _given_on(entry, day))
-    return total
+    return _total([_given_on(entry, day) for entry in entries])
 
 
 def sum_before(entries, day):
     """The exact amount of all days below the day."""
     check_day(day)
-    total = ZERO
-    for entry in entries:
-        total = plus(total, _given_before(entry, day))
-    return total
+    return _total([_given_before(entry, day) for entry in entries])
 
 
 def point(entries, day):
