@@ -52,6 +52,38 @@ raises BadItem(part=2)
 >>> best(ledger, [((1, 1), 1, 5), ((2, 1), 1, 3), ((0, 3), 1, 1)])
 (6, (1, 3))
 """,
+    "onecut.clashes": """
+>>> from onecut.clashes import clash, repair
+>>> bad = ledger.copy()
+>>> [bad.add(("statement", 1, 1, 0)), clash(bad), bad.add(("statement", 2, 1, 0)), clash(bad), repair(bad)]
+[2, None, 3, (1, 2, 3), ((3,), (0, 1))]
+""",
+    "onecut.records": """
+>>> from onecut.records import needed, plan, record
+>>> [len(record(ledger)), needed(ledger), record(Ledger())]
+[1, (1,), []]
+>>> [plan(ledger, 1), plan(ledger, 2)[0], plan(ledger, 2)[3]]
+[('sure',), 'ask', ('sure',)]
+""",
+    "onecut.compare": """
+>>> from onecut.compare import first_unlike, joined, joint_clash, parting
+>>> other = Ledger()
+>>> [other.add(("entry", 0, 2, ((1, 3),))), first_unlike(ledger, other), other.add(("entry", 2, 1, ((1, 3),)))]
+[0, 2, 1]
+>>> [first_unlike(ledger, other), other.add(("statement", 2, 1, 0)), joined(ledger, other), joint_clash(ledger, other)]
+[None, 2, [((1, 3), (2, 3))], None]
+>>> parting(ledger, ledger.copy())
+""",
+    "onecut.far": """
+>>> from onecut.far import count_apart, count_unsure, first_apart, first_total, first_unsure
+>>> long = Ledger()
+>>> [long.add(("entry", 0, 10 ** 30, ((1, 3),))), long.add(("statement", 0, 1, 0))]
+[0, 1]
+>>> [first_unsure(long, 0), first_unsure(long, 0, since=10 ** 29), count_unsure(long, 0, 1, 9)]
+[2, 100000000000000000000000000001, 3]
+>>> [first_apart(long, (0, 1), (1, 2)), count_apart(long, (0, 1), (1, 2), 0, 9), first_total(long, (1, 2), 4)]
+[2, 3, 11]
+""",
 }
 
 
