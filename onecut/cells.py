@@ -3,8 +3,16 @@
 from math import lcm
 
 from onecut.entries import point
-from onecut.ratios import ONE
+from onecut.ratios import ONE, is_int
 from onecut.spans import both
+
+# The greatest last day of a question tree.
+MOST_DAYS = 200
+
+
+def is_last(thing):
+    """Whether any thing is a last day of a question tree."""
+    return is_int(thing) and 0 <= thing <= MOST_DAYS
 
 
 def points_up_to(entries, last):
@@ -26,3 +34,9 @@ def cells(points, cuts):
     lows = _ascending(points)
     highs = lows[1:] + [ONE]
     return [low for low, high in zip(lows, highs) if both([(low, high)], cuts)]
+
+
+def fewest_asks(many):
+    """How many asks it takes in the worst case to find one of that many cells."""
+    # Each ask has two answers, and it can part the cells in half, as cells side by side can be asked for.
+    return (many - 1).bit_length()

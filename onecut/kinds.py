@@ -33,14 +33,15 @@ def is_stretch(thing):
     return is_day(first) and _is_many(many, first)
 
 
-def _is_amount(thing):
+def is_amount(thing):
+    """Whether any thing is a ratio that an entry may give."""
     return is_ratio(thing) and -AMOUNT_BOUND <= thing[0] <= AMOUNT_BOUND and thing[1] <= AMOUNT_BOUND
 
 
 def _is_amounts(thing):
     if not (isinstance(thing, tuple) and 1 <= len(thing) <= MOST_AMOUNTS):
         return False
-    return all([_is_amount(part) for part in thing])
+    return all([is_amount(part) for part in thing])
 
 
 def wrong_part(thing):

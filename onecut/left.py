@@ -32,13 +32,17 @@ def allowed(entries, statement):
     return _telling(entries, (first, many), number)
 
 
-def left(ledger):
-    """The set of the cuts that are left by the ledger."""
-    entries = ledger.entries()
+def telling_all(entries, statements):
+    """The set of the cuts that tell the stretches of all the statements as stated."""
     cuts = [(ZERO, ONE)]
-    for statement in ledger.statements():
+    for statement in statements:
         cuts = both(cuts, allowed(entries, statement))
     return cuts
+
+
+def left(ledger):
+    """The set of the cuts that are left by the ledger."""
+    return telling_all(ledger.entries(), ledger.statements())
 
 
 def told(ledger, cut, stretch):

@@ -1,14 +1,10 @@
 """Fewer statements that say the same, and questions that settle everything."""
 
 from onecut.arcs import fewest_over, gaps
-from onecut.cells import cells, points_up_to
+from onecut.cells import cells, is_last, points_up_to
 from onecut.errors import BadDay, NothingLeft
 from onecut.left import left
-from onecut.ratios import is_int
 from onecut.statements import barred, days_by_point, statement_between
-
-# The greatest last day of a question tree.
-MOST_DAYS = 200
 
 
 def _some_left(ledger):
@@ -56,7 +52,7 @@ def _tree(days, lows):
 
 def plan(ledger, last):
     """A question tree for the days up to the last one, with as few asks as possible in the worst case."""
-    if not (is_int(last) and 0 <= last <= MOST_DAYS):
+    if not is_last(last):
         raise BadDay("the last day of a plan is an integer from 0 to 200")
     cuts = _some_left(ledger)
     points = points_up_to(ledger.entries(), last)

@@ -84,6 +84,29 @@ raises BadItem(part=2)
 >>> [first_apart(long, (0, 1), (1, 2)), count_apart(long, (0, 1), (1, 2), 0, 9), first_total(long, (1, 2), 4)]
 [2, 3, 11]
 """,
+    "onecut.papers, onecut.checker": """
+>>> from onecut.checker import holds
+>>> from onecut.papers import drop_paper, paper
+>>> paper(ledger)
+('fits', [('entry', 0, 3, ((1, 3),))], [('statement', 0, 1, 0)], (0, 1))
+>>> [holds(paper(bad)), holds(drop_paper(bad)), holds(("fits", [], [("statement", 0, 1, 1)], (0, 1)))]
+[True, True, False]
+""",
+    "onecut.texts": """
+>>> from onecut.texts import item_text, read_item
+>>> [item_text(("entry", 0, 6, ((1, 3), (-2, 1)))), read_item("statement 4 2 -1")]
+['entry 0 6 1/3 -2', ('statement', 4, 2, -1)]
+>>> read_item("entry 0 6 2/4")
+raises BadText(place=3)
+""",
+    "onecut.desk": """
+>>> from onecut.desk import Desk
+>>> desk = Desk()
+>>> [desk.say("add entry 0 3 1/3"), desk.say("add statement 0 1 0"), desk.say("left"), desk.say("possible 1 1")]
+['0', '1', '0..2/3', '0 1']
+>>> [desk.say("average 1 1"), desk.say("undo"), desk.say("items"), desk.say("left")]
+['1/2', 'ok', '0:entry 0 3 1/3', '0..1']
+""",
 }
 
 
