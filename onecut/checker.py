@@ -97,7 +97,7 @@ def _sets_apart(thing):
     return telling_all(entries, one + [statement]) != [] and telling_all(entries, other + [statement]) == []
 
 
-# How many parts each kind of paper has; the first three are its name, entries and statements.
+# The number of parts is checked ahead, so that each check can take its paper apart.
 PARTS = {"fits": 4, "clash": 3, "drop": 5, "record": 4, "plan": 5, "apart": 5}
 CHECKS = {
     "fits": _fits,

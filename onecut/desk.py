@@ -43,7 +43,7 @@ def _average(ledger, stretch):
     return "none" if found is None else ratio_text(found)
 
 
-# What is asked about the ledger, and what is asked about a stretch.
+# These answers change nothing, so nothing has to be kept for undo.
 OF_LEDGER = {"items": _items, "left": _left, "clash": _clash, "repair": _repair}
 OF_STRETCH = {"exact": _exact, "possible": _possible, "average": _average}
 

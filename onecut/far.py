@@ -1,4 +1,8 @@
-"""Days that are too many to be visited: the first ones of a kind, and how many there are."""
+"""Days that are too many to be visited: the first ones of a kind, and how many there are.
+
+A window is a tuple (shift, least, size): it holds the days before which the sum plus shift, less its floor, is below
+size, and not 0 if least is 1.
+"""
 
 from math import lcm
 
@@ -9,9 +13,6 @@ from onecut.left import left
 from onecut.ratios import ONE, ZERO, is_less, minus, plus, rest_of
 from onecut.rounds import ROUND, progressions, segments
 from onecut.spans import arc, both
-
-# A window is a tuple (shift, least, size): it holds the days before which the sum plus shift, less its floor, is
-# below size, and not 0 if least is 1.
 
 
 def _unsure_window(ledger, start):
